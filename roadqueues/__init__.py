@@ -1,0 +1,1 @@
+"""Roadqueues: letters that wait at roads, whoever puts them in."""
