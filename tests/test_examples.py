@@ -36,6 +36,65 @@ RATES = """
 ('0 e f\\n1 e', ((3, ('e', 'f')), (3, ('f',))))
 """
 
+YARDS = """
+>>> from roadqueues.webs import Web
+>>> from roadqueues.yards import all_ages, crossings, played, Yard
+>>> web = Web('road a u v\\nroad b v w')
+>>> row = ((0, ('a', 'b')), (0, ('a',)), (1, ('b',)))
+>>> [all_ages(web, row, rule) for rule in ('eldest', 'nearest', 'youngest', (2, 1, 0))]
+[(2, 2, 2), (3, 1, 1), (3, 2, 1), (3, 1, 1)]
+>>> [crossings(web, row, 'eldest', 9), crossings(web, row, 'nearest', 2), played(web, row, 'nearest', 2)]
+[((0, 1), (1,), (2,)), ((1,), (0,), (1,)), (((1, 1), (2, 1)), (0,), 2)]
+>>> yard = Yard(web, (('length', 'up'), ('number', 'down')))
+>>> [yard.put(('a', 'b')), yard.put(('a',)), yard.standing, yard.go_on(), yard.beat, yard.homes]
+[0, 1, (('a', (0, 1)), ('b', ())), (('a', 1),), 1, ((1, 1),)]
+>>> [yard.put(('b',)), yard.go_on(), yard.go_on(), yard.homes]
+[2, (('a', 0), ('b', 2)), (('b', 0),), ((1, 1), (2, 1), (0, 3))]
+"""
+
+KEEPERS = """
+>>> from roadqueues.keepers import elder_keeper, keeper_bound, layer_bounds, ring_bound, slow_bound, younger_keeper
+>>> from roadqueues.webs import Web
+>>> rows = ((3, 1, ('a', 'b'), 1, 4), (5, 2, ('b',), 0, 2), (6, 4, ('b', 'c'), 0, 4))
+>>> [elder_keeper(rows), younger_keeper(rows)]
+[0, 2]
+>>> [keeper_bound((1, 2, 1), 3), keeper_bound((1, 2, 3), 1), keeper_bound((1, 2, 3), 2), keeper_bound((9, 10, 1), 3)]
+[7, 5, 15, 111]
+>>> [slow_bound((1, 4, 1), 3), slow_bound((1, 4, 2), 1), ring_bound(Web('road a x y\\nroad b y x'), (1, 2, 1))]
+[6, 2, 5]
+>>> layer_bounds(Web('road a x y\\nroad b y z\\nroad c x z'), (1, 2, 1))
+(('a', 1, 2), ('b', 2, 4), ('c', 1, 2))
+"""
+
+PUTTERS = """
+>>> from roadqueues.putters import blown_web, putter
+>>> from roadqueues.rates import keeps_rate
+>>> from roadqueues.yards import played
+>>> rate, web = (9, 10, 41), blown_web('nearest')
+>>> row = putter('nearest', rate, 100)
+>>> [keeps_rate(web, row, rate), row[-1][0] < 6000, played(web, row, 'nearest', row[-1][0] + 1)[2] > 100]
+[('kept',), True, True]
+"""
+
+TREES = """
+>>> from roadqueues.trees import due_table, is_timetable, least_beats, most_crossed, shows_due_table
+>>> from roadqueues.webs import Web
+>>> from roadqueues.yards import crossings
+>>> web = Web('road a u w\\nroad b v w\\nroad c w x')
+>>> row = ((0, ('a', 'c')), (0, ('b', 'c')), (0, ('a',)), (1, ('c',)))
+>>> [least_beats(web, row), least_beats(web, ()), crossings(web, row, 'farthest', 4)]
+[(4, ('c', 1, 0, 3)), (0, ()), ((0, 1), (0, 2), (1,), (3,))]
+>>> [most_crossed(web, row, 'c', 0, 3), most_crossed(web, row, 'a', 1, 9), most_crossed(web, row, 'b', 0, 0)]
+[2, 1, 0]
+>>> [is_timetable(web, row, ((0, 1), (0, 2), (1,), (3,))), is_timetable(web, row, ((0, 1), (0, 1), (1,), (3,))), is_timetable(web, row, ())]
+[True, False, False]
+>>> three = ((0, ('a', 'c')), (0, ('b', 'c')), (1, ('c',)))
+>>> [due_table(web, three, (4, 3, 2))[0], due_table(web, three, (2, 2, 9))]
+['kept', ('barred', 'c', 1, 2, 2)]
+>>> [shows_due_table(web, three, (4, 3, 2), ('kept', ((0, 3), (1, 2), (1,)))), shows_due_table(web, three, (2, 2, 9), ('barred', 'c', 1, 3, 3))]
+[True, False]
+"""
+
 
 class Examples(unittest.TestCase):
     def run_examples(self, text, many):
@@ -50,9 +109,21 @@ class Examples(unittest.TestCase):
     def test_rates(self):
         self.run_examples(RATES, 10)
 
+    def test_yards(self):
+        self.run_examples(YARDS, 9)
+
+    def test_keepers(self):
+        self.run_examples(KEEPERS, 7)
+
+    def test_putters(self):
+        self.run_examples(PUTTERS, 6)
+
+    def test_trees(self):
+        self.run_examples(TREES, 11)
+
     def test_readme(self):
         text = pathlib.Path(__file__).resolve().parent.parent.joinpath("README.md").read_text(encoding="utf-8")
-        self.run_examples(text.replace("```", ""), 11)
+        self.run_examples(text.replace("```", ""), 30)
 
 
 if __name__ == "__main__":

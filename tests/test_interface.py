@@ -7,6 +7,7 @@ import unittest
 from roadqueues import errors
 from roadqueues.errors import QueueError
 from roadqueues.webs import Web
+from roadqueues.yards import Yard
 from support import ODD_VALUES
 
 ERRORS = (
@@ -35,6 +36,32 @@ CALLS = {
         "puttings_text": ["web", "puttings"],
         "read_puttings": ["web", "text"],
     },
+    "yards": {
+        "Yard": ["web", "rule"],
+        "played": ["web", "puttings", "rule", "beats"],
+        "crossings": ["web", "puttings", "rule", "beats"],
+        "all_ages": ["web", "puttings", "rule"],
+    },
+    "keepers": {
+        "elder_keeper": ["rows"],
+        "younger_keeper": ["rows"],
+        "keeper_bound": ["rate", "most"],
+        "slow_bound": ["rate", "most"],
+        "ring_bound": ["web", "rate"],
+        "layer_bounds": ["web", "rate"],
+    },
+    "putters": {
+        "blown_web": ["rule"],
+        "putter": ["rule", "rate", "goal"],
+    },
+    "trees": {
+        "is_timetable": ["web", "puttings", "value"],
+        "least_beats": ["web", "puttings"],
+        "shows_least_beats": ["web", "puttings", "value"],
+        "most_crossed": ["web", "puttings", "road", "further", "beat"],
+        "due_table": ["web", "puttings", "dues"],
+        "shows_due_table": ["web", "puttings", "dues", "value"],
+    },
 }
 
 
@@ -58,6 +85,18 @@ class Names(unittest.TestCase):
 
     def test_listed_attributes_are_set_when_a_web_is_created(self):
         self.assertLessEqual({"text", "roads", "places"}, set(vars(Web("road a p q"))))
+
+    def test_yard_defines_its_own_methods(self):
+        for name, arguments in {"__init__": ["self", "web", "rule"], "put": ["self", "way"], "go_on": ["self"],
+                                "copy": ["self"]}.items():
+            self.assertIn(name, Yard.__dict__)
+            self.assertEqual(list(inspect.signature(Yard.__dict__[name]).parameters), arguments)
+
+    def test_listed_attributes_are_there_when_a_yard_is_created(self):
+        yard = Yard(Web("road a p q"), "eldest")
+        for one in (yard, yard.copy()):
+            for name in ("web", "rule", "beat", "letters", "standing", "homes"):
+                self.assertTrue(hasattr(one, name))
 
 
 class Errors(unittest.TestCase):

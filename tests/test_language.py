@@ -162,6 +162,23 @@ class Language(unittest.TestCase):
                 if isinstance(node, ast.Attribute) and node.attr not in METHODS | stored | methods:
                     self.told(path, node, "an attribute that is not let: " + node.attr)
 
+    def test_properties_and_operators_only_return(self):
+        for path, _, tree in parsed():
+            for node in ast.walk(tree):
+                if isinstance(node, ast.FunctionDef) and (
+                        node.decorator_list or node.name in SPECIAL_METHODS - {"__init__"}):
+                    rows = [part for part in node.body if not isinstance(part, (ast.Expr, ast.Return))]
+                    for part in rows:
+                        if not isinstance(part, ast.Assign) or not isinstance(part.targets[0], ast.Name):
+                            self.told(path, part, "more than names and a return")
+
+    def test_heaps_are_called_in_functions_alone(self):
+        for path, _, tree in parsed():
+            called = {id(node.func) for node in ast.walk(tree) if isinstance(node, ast.Call)}
+            for node in ast.walk(tree):
+                if isinstance(node, ast.Name) and node.id in LIBRARY["heapq"] and id(node) not in called:
+                    self.told(path, node, "a library's name that is not called")
+
     def test_strings_and_words(self):
         for path, text, tree in parsed():
             told = docstrings(tree)
