@@ -95,6 +95,70 @@ TREES = """
 [True, False]
 """
 
+TABLES = """
+>>> from roadqueues.tables import fewest_beats, floor_of, judged_table, pushed_table, rests_of, shows_fewest, table_of
+>>> from roadqueues.webs import Web
+>>> web, ways = Web('road e u v\\nroad f v w\\nroad g v w\\nroad h w u'), (('e', 'f'), ('e', 'g'), ('f',))
+>>> [judged_table(web, ways, table) for table in (((0, 1), (1, 2), (0,)), ((0, 1), (0, 1), (1,)), ((0, 0), (1, 2), (0,)), ())]
+[('fine', 3), ('clash', 'e', 0, 0, 1), ('odd', 0), ('odd', -1)]
+>>> [rests_of(web, ways, ((0, 2), (1, 3), (4,))), pushed_table(web, ways, ((0, 2), (1, 3), (4,)))]
+[((0, 'f'), (1, 'f'), (2, 'g'), (3, 'f')), ((0, 1), (1, 2), (0,))]
+>>> [table_of(web, ways, 'eldest'), floor_of(web, ways), fewest_beats(web, ways)[0], shows_fewest(web, ways, (3, ((1, 2), (0, 1), (0,))))]
+[((0, 1), (1, 2), (0,)), 3, 3, True]
+"""
+
+WORST = """
+>>> from roadqueues.webs import Web
+>>> from roadqueues.worst import fullest_yard, shows_worst, worst
+>>> web = Web('road e a b\\nroad f b c')
+>>> [worst(web, (('e',),), 'eldest', (1, 2, 2), 4)[:2], worst(web, (('e',),), 'youngest', (1, 2, 2), 4)[:2], worst(web, (('e',),), 'eldest', (1, 2, 2), 1)[0]]
+[('within', 2), ('within', 3), 'beyond']
+>>> row = ((0, ('e',)), (0, ('e',)), (1, ('e',)))
+>>> [shows_worst(web, (('e',),), 'youngest', (1, 2, 2), 4, ('within', 3, row)), shows_worst(web, (('e',),), 'eldest', (1, 2, 2), 4, ('within', 3, row))]
+[True, False]
+>>> [fullest_yard(web, (('e',),), 'youngest', (1, 2, 2), 4), fullest_yard(web, (('e',), ('e', 'f')), 'nearest', (1, 2, 1), 4)]
+[2, 2]
+"""
+
+JUDGED = """
+>>> from roadqueues.judged import broken_at, earlier_heeded, later_heeded, parted_at
+>>> from roadqueues.webs import Web
+>>> web = Web('road a u v\\nroad b v w')
+>>> row = ((0, ('a', 'b')), (1, ('b',)), (1, ('a', 'b')), (2, ('b',)))
+>>> [later_heeded(web, row, 'eldest'), later_heeded(web, row, 'nearest'), later_heeded(web, row, 'youngest')]
+[None, None, (0, 0)]
+>>> [earlier_heeded(web, row, 'youngest'), earlier_heeded(web, row, 'eldest')]
+[None, (2, 3)]
+>>> [broken_at(web, row, 'eldest', 2), broken_at(web, row, 'eldest', 3), broken_at(web, row, 'youngest', 3)]
+[('broken', 2, 2), ('kept',), ('broken', 0, 2)]
+>>> [later_heeded(web, row, (('came', 'down'),)), later_heeded(web, row, (('left', 'down'), ('beat', 'up')))]
+[(1, 1), None]
+>>> [parted_at(web, row, 'eldest', 'youngest'), parted_at(web, row, 'eldest', 'last'), parted_at(web, row, 'eldest', 'first')]
+[(1, 'b', 0, 1), (2, 'b', 1, 2), None]
+"""
+
+DESK = """
+>>> from roadqueues.desk import Desk, desk_text, read_desk
+>>> desk = Desk()
+>>> desk.lead(('web', 'w', 'road a u v\\nroad b v w'))
+>>> desk.lead(('row', 'some', 'w', '0 a b\\n0 a\\n1 b'))
+>>> desk.lead(('yard', 'old', 'w', 'eldest'))
+>>> desk.note('empty')
+>>> desk.lead(('play', 'old', 'some', 2))
+>>> [desk.names, desk.thing_kind('some'), desk.thing_of('old').homes, desk.does_keep('some', (1, 2, 2))]
+[('old', 'some', 'w'), 'row', ((0, 2), (1, 2)), ('kept',)]
+>>> desk.lead(('play', 'old', 'some', 1))
+>>> [desk.thing_of('old').homes, desk.thing_of('old').standing]
+[((0, 2), (1, 2), (2, 2)), (('a', (4,)), ('b', (3,)))]
+>>> desk.back('empty')
+>>> [len(desk.thing_of('old').letters), desk.all_deeds()[1]]
+[0, (('play', 'old', 'some', 2), ('play', 'old', 'some', 1))]
+>>> desk_text(desk).split('\\n')[:4]
+['stand 3', 'note empty 3', 'web w 2', 'road a u v']
+>>> desk_text(read_desk(desk_text(desk))) == desk_text(desk)
+True
+"""
+
 
 class Examples(unittest.TestCase):
     def run_examples(self, text, many):
@@ -121,9 +185,21 @@ class Examples(unittest.TestCase):
     def test_trees(self):
         self.run_examples(TREES, 11)
 
+    def test_tables(self):
+        self.run_examples(TABLES, 6)
+
+    def test_worst(self):
+        self.run_examples(WORST, 7)
+
+    def test_judged(self):
+        self.run_examples(JUDGED, 9)
+
+    def test_desk(self):
+        self.run_examples(DESK, 14)
+
     def test_readme(self):
         text = pathlib.Path(__file__).resolve().parent.parent.joinpath("README.md").read_text(encoding="utf-8")
-        self.run_examples(text.replace("```", ""), 30)
+        self.run_examples(text.replace("```", ""), 53)
 
 
 if __name__ == "__main__":

@@ -5,6 +5,7 @@ import inspect
 import unittest
 
 from roadqueues import errors
+from roadqueues.desk import Desk, read_desk
 from roadqueues.errors import QueueError
 from roadqueues.webs import Web
 from roadqueues.yards import Yard
@@ -62,6 +63,38 @@ CALLS = {
         "due_table": ["web", "puttings", "dues"],
         "shows_due_table": ["web", "puttings", "dues", "value"],
     },
+    "tables": {
+        "judged_table": ["web", "ways", "table"],
+        "table_of": ["web", "ways", "rule"],
+        "rests_of": ["web", "ways", "table"],
+        "pushed_table": ["web", "ways", "table"],
+        "floor_of": ["web", "ways"],
+        "fewest_beats": ["web", "ways"],
+        "shows_fewest": ["web", "ways", "value"],
+    },
+    "worst": {
+        "worst": ["web", "ways", "rule", "rate", "limit"],
+        "shows_worst": ["web", "ways", "rule", "rate", "limit", "value"],
+        "fullest_yard": ["web", "ways", "rule", "rate", "limit"],
+    },
+    "judged": {
+        "broken_at": ["web", "puttings", "rule", "bound"],
+        "parted_at": ["web", "puttings", "one", "other"],
+        "later_heeded": ["web", "puttings", "rule"],
+        "earlier_heeded": ["web", "puttings", "rule"],
+        "blown_by": ["rule", "rate", "goal"],
+    },
+    "desk": {
+        "Desk": [],
+        "desk_text": ["desk"],
+        "read_desk": ["text"],
+    },
+}
+
+DESK_METHODS = {
+    "__init__": ["self"], "lead": ["self", "deed"], "thing_of": ["self", "name"], "thing_kind": ["self", "name"],
+    "web_of": ["self", "name"], "does_keep": ["self", "row", "rate"], "undo": ["self"], "redo": ["self"],
+    "note": ["self", "word"], "notes": ["self"], "back": ["self", "word"], "all_deeds": ["self"], "__len__": ["self"],
 }
 
 
@@ -97,6 +130,16 @@ class Names(unittest.TestCase):
         for one in (yard, yard.copy()):
             for name in ("web", "rule", "beat", "letters", "standing", "homes"):
                 self.assertTrue(hasattr(one, name))
+
+    def test_desk_defines_its_own_methods(self):
+        for name, arguments in DESK_METHODS.items():
+            self.assertIn(name, Desk.__dict__)
+            self.assertEqual(list(inspect.signature(Desk.__dict__[name]).parameters), arguments)
+        self.assertIn("__contains__", Desk.__dict__)
+
+    def test_listed_attributes_are_there_when_a_desk_is_created(self):
+        for one in (Desk(), read_desk("stand 0")):
+            self.assertTrue(hasattr(one, "names"))
 
 
 class Errors(unittest.TestCase):

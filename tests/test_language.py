@@ -92,8 +92,15 @@ class Language(unittest.TestCase):
 
     def test_module_level(self):
         for path, _, tree in parsed():
+            above = set()
             for node in tree.body:
-                if isinstance(node, ast.Assign):
+                if isinstance(node, ast.FunctionDef):
+                    above.add(node.name)
+                if isinstance(node, ast.Assign) and isinstance(node.value, ast.Dict) and {
+                        type(part) for part in node.value.values} == {ast.Name}:
+                    # A table of functions that are defined above.
+                    self.assertLessEqual({part.id for part in node.value.values}, above)
+                elif isinstance(node, ast.Assign):
                     ast.literal_eval(node.value)
                 elif not isinstance(node, (ast.ImportFrom, ast.FunctionDef, ast.ClassDef)):
                     self.assertIs(node, tree.body[0], path)
