@@ -344,4 +344,5 @@ def part_in(kind, word):
     """The part of a deed of this kind that a word tells, of a text how many lines it has, or None."""
     if kind in ("number", "text"):
         return number_in(word)
-    return word if kind == "rule" or is_name(word) else None
+    # The words of rules are names, too.
+    return word if is_name(word) else None
